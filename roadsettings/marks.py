@@ -11,12 +11,17 @@ def is_name(thing):
     return 1 <= len(thing) <= LONGEST_NAME and all(["a" <= sign <= "z" for sign in thing])
 
 
+def is_number(thing):
+    """Whether it is a whole number."""
+    # Python counts True and False among its whole numbers; they are none here.
+    return isinstance(thing, int) and not isinstance(thing, bool)
+
+
 def is_value(thing):
     """Whether it is a number, or a text of signs from the blank to `~`; None is no value."""
     if isinstance(thing, str):
         return all([" " <= sign <= "~" for sign in thing])
-    # Python counts True and False among its whole numbers; they are none here.
-    return isinstance(thing, int) and not isinstance(thing, bool)
+    return is_number(thing)
 
 
 def alike(one, other):

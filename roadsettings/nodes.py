@@ -1,7 +1,7 @@
 """The nodes of which tables are built: the bare one, leaves and forks, told as tuples.
 
 BARE, leaf_of and fork_of tell a single node. The parts of a fork are numbers of nodes.
-nodes_of tells which nodes the table of some pairs has.
+parts_in, pairs_in and has_mark look into one. nodes_of tells which nodes the table of some pairs has.
 """
 
 from roadsettings.marks import digit, mark
@@ -22,6 +22,21 @@ def leaf_of(pairs):
 def fork_of(parts):
     """The fork with these four parts, the one for a digit at that digit's place."""
     return ("fork", tuple(parts))
+
+
+def parts_in(node):
+    """The tuple of a fork's parts; an empty one of any other node."""
+    return node[1] if node[0] == "fork" else ()
+
+
+def pairs_in(node):
+    """The tuple of a leaf's own pairs; an empty one of any other node."""
+    return node[2] if node[0] == "leaf" else ()
+
+
+def has_mark(node, number):
+    """Whether the node is a leaf of that mark."""
+    return node[0] == "leaf" and node[1] == number
 
 
 def nodes_of(pairs):

@@ -18,6 +18,20 @@ WORDS = re.compile(
     r"\b(type|typing|typing_extensions|enum|Enum|IntEnum|StrEnum|Flag|IntFlag|Generic|Protocol|ABC|ABCMeta"
     r"|namedtuple|NamedTuple|TypedDict|TYPE_CHECKING|abstractmethod)\b|dataclass|overload|contextmanager"
 )
+METHODS = set(
+    "append clear copy count endswith extend find get index insert isalnum isalpha isdigit islower isspace isupper"
+    " items join keys ljust lower lstrip partition pop remove replace reverse rfind rjust rpartition rsplit rstrip"
+    " setdefault split splitlines startswith strip update upper values zfill bit_length add discard".split()
+)
+NOT_USED = set(
+    "register mro elements open input version_info with_traceback add_note attrgetter breakpoint builtins compile"
+    " copyright credits delattr dir eval exec exit gc getattr globals hasattr help id importlib license locals"
+    " methodcaller os quit setattr super type vars sys format format_map".split()
+)
+VALUES_OUT = set(
+    "items keys values pop update append clear extend insert remove reverse setdefault sort args encode decode hex"
+    " fromhex format".split()
+)
 OUT = (
     ast.GeneratorExp, ast.With, ast.Match, ast.Global, ast.Nonlocal, ast.Yield, ast.YieldFrom, ast.Await,
     ast.AsyncFunctionDef, ast.AsyncFor, ast.AsyncWith, ast.NamedExpr, ast.Div, ast.MatMult, ast.Import,
@@ -37,6 +51,18 @@ def bound_names(node):
     if isinstance(node, ast.Name) and isinstance(node.ctx, ast.Store):
         return [node.id]
     return [node.attr] if isinstance(node, ast.Attribute) else []
+
+
+def tops_taken(tree):
+    """The names that a file's imports and classes bind."""
+    drawn = [name.asname or name.name for row in tree.body if isinstance(row, ast.ImportFrom) for name in row.names]
+    return set(drawn) | {row.name for row in tree.body if isinstance(row, ast.ClassDef)}
+
+
+def drawn_from(path):
+    """The package's files that this one draws from."""
+    rows = [row for row in ast.parse(path.read_text(encoding="utf-8")).body if isinstance(row, ast.ImportFrom)]
+    return {row.module.split(".")[-1] for row in rows}
 
 
 class Form(unittest.TestCase):
@@ -94,6 +120,35 @@ class Form(unittest.TestCase):
                 self.assertIsInstance(node.ctx, ast.Load, where)
             for name in bound_names(node):
                 self.assertTrue(name in UNDERSCORED or not name.startswith("_"), where)
+
+    def test_no_local_is_called_like_an_import_a_class_or_python_s_own(self):
+        for path in files():
+            tree = ast.parse(path.read_text(encoding="utf-8"))
+            taken = tops_taken(tree) | set(dir(builtins))
+            for node in ast.walk(tree):
+                for name in bound_names(node) if isinstance(node, (ast.Name, ast.arg)) else ():
+                    self.assertNotIn(name, taken, f"{path.name}, row {node.lineno}")
+
+    def test_names_that_are_not_used(self):
+        for where, node in self.each_node():
+            for name in bound_names(node):
+                self.assertNotIn(name, NOT_USED, where)
+
+    def test_no_name_is_a_method_and_a_value(self):
+        nodes = [node for where, node in self.each_node()]
+        classes = [node for node in nodes if isinstance(node, ast.ClassDef)]
+        methods = {row.name for node in classes for row in node.body if isinstance(row, ast.FunctionDef)}
+        asked = [node for node in nodes if isinstance(node, ast.Attribute)]
+        values = {node.attr for node in asked if isinstance(node.ctx, ast.Store)}
+        self.assertEqual(values & (methods | VALUES_OUT), set())
+        self.assertEqual({node.attr for node in asked} - values - methods - METHODS, set())
+
+    def test_no_two_files_draw_from_one_another(self):
+        left = {path.stem: drawn_from(path) for path in files()}
+        while left:
+            free = [name for name in left if not left[name] & set(left)]
+            self.assertNotEqual(free, [], left)
+            left = {name: left[name] for name in left if name not in free}
 
 
 if __name__ == "__main__":

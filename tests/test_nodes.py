@@ -5,7 +5,7 @@ import itertools
 import unittest
 
 from roadsettings.marks import digit, mark
-from roadsettings.nodes import BARE, fork_of, leaf_of, nodes_of
+from roadsettings.nodes import BARE, fork_of, has_mark, leaf_of, nodes_of, pairs_in, parts_in
 
 # Marks: a 1, b 2, aa 3, c 3, ba 4, d 4, ab 5, e 5, cab 11, wzzz 257 (which is 1 and 256).
 SOME = [
@@ -62,6 +62,14 @@ class Single(unittest.TestCase):
     def test_a_fork_s_four_parts_stand_by_their_digits(self):
         self.assertEqual(fork_of([0, 3, 0, 7]), ("fork", (0, 3, 0, 7)))
         self.assertEqual(fork_of((9, 8, 7, 6)), ("fork", (9, 8, 7, 6)))
+
+    def test_what_stands_in_a_node(self):
+        fork = fork_of([0, 3, 0, 7])
+        leaf = leaf_of([("d", "x"), ("ba", 2)])
+        self.assertEqual([parts_in(node) for node in (BARE, leaf, fork)], [(), (), (0, 3, 0, 7)])
+        self.assertEqual([pairs_in(node) for node in (BARE, leaf, fork)], [(), (("ba", 2), ("d", "x")), ()])
+        self.assertEqual([has_mark(node, 4) for node in (BARE, leaf, fork)], [False, True, False])
+        self.assertFalse(has_mark(leaf, 5))
 
 
 class Tables(unittest.TestCase):
