@@ -1,6 +1,9 @@
-"""What the tests of tables and roads share: names, values, drawn deeds, and the document's words reckoned plainly."""
+"""What the tests share: names, values, drawn deeds and programs, and the document's words reckoned plainly."""
 
 import random
+import re
+
+from roadsettings import errors
 
 VALUES = [0, "0", 1, "1", "", " ", -1, "-1", 2, "None", "~", "it's \\ so", 10**30 - 1, 1 - 10**30, "x" * 40]
 
@@ -179,3 +182,215 @@ def road_due(rows, place):
     """The list of the places on the road to that one."""
     ahead = rows[place][0]
     return ([] if ahead is None else road_due(rows, ahead)) + [place]
+
+
+def outcome(ask, *things):
+    """What an ask comes to: what it tells, or by which class and of what it is refused."""
+    try:
+        return ("told", plain(ask(*things)))
+    except errors.RoadError as refused:
+        return ("refused", type(refused).__name__, plain(refused.what))
+
+
+class HallDue:
+    """What [11] to [14] ask of a hall, in plain dicts and lists of the test's own."""
+
+    def __init__(self):
+        self.settings = []
+        self.values = [{}]
+        self.spots = [0]
+        self.places = 1
+        self.entered = [0]
+        self.tokens = []
+
+    def open_beside(self, token):
+        """The open tokens with that one's world and name, maybe itself among them."""
+        return [at for at, row in enumerate(self.tokens) if row[3] and row[:2] == self.tokens[token][:2]]
+
+    def is_world(self, world):
+        return world in range(len(self.values))
+
+    def is_declared(self, name):
+        return name in [known for known, default in self.settings]
+
+    def refused(self, deed, *things):
+        """The name of the class by which a deed is refused, None where it isn't."""
+        what = things[0] if things else None
+        if deed == "declare":
+            return "Known" if self.is_declared(what) else None
+        if deed in ("copy", "enter") and not self.is_world(what):
+            return "NoWorld"
+        if deed == "enter":
+            return "Busy" if what in self.entered else None
+        if deed == "leave":
+            return "AtHome" if len(self.entered) == 1 else None
+        if deed == "set_to":
+            return None if self.is_declared(what) else "NoSetting"
+        return self.back_refused(what) if deed == "back" else None
+
+    def back_refused(self, token):
+        if token not in range(len(self.tokens)):
+            return "NoToken"
+        world, name, old, is_open = self.tokens[token]
+        if not is_open:
+            return "Used"
+        if world != self.entered[-1]:
+            return "Elsewhere"
+        return "OutOfTurn" if max(self.open_beside(token)) > token else None
+
+    def go_on(self, name, value):
+        world = self.entered[-1]
+        self.values[world] = after(self.values[world], name, value)
+        self.spots[world] = self.places
+        self.places += 1
+
+    def do(self, deed, *things):
+        """Do a deed that isn't refused, and tell what it is to tell."""
+        if deed == "declare":
+            self.settings.append(things)
+        if deed == "copy":
+            self.values.append(dict(self.values[things[0]]))
+            self.spots.append(self.spots[things[0]])
+            return len(self.values) - 1
+        if deed == "enter":
+            self.entered.append(things[0])
+        if deed == "leave":
+            self.entered.pop()
+        if deed == "set_to":
+            world = self.entered[-1]
+            self.tokens.append((world, things[0], self.values[world].get(things[0]), True))
+            self.go_on(*things)
+            return len(self.tokens) - 1
+        if deed == "back":
+            world, name, old, is_open = self.tokens[things[0]]
+            self.tokens[things[0]] = (world, name, old, False)
+            self.go_on(name, old)
+        return None
+
+    def outcome(self, deed, *things):
+        """What the deed comes to, in the form of outcome."""
+        kind = self.refused(deed, *things)
+        if kind is not None:
+            return ("refused", kind, plain(things[0] if things else self.entered[-1]))
+        return ("told", plain(self.do(deed, *things)))
+
+    def look_due(self, world, name):
+        if not self.is_world(world):
+            return ("refused", "NoWorld", plain(world))
+        if not self.is_declared(name):
+            return ("refused", "NoSetting", plain(name))
+        value = self.values[world].get(name, dict(self.settings)[name])
+        return ("refused", "Missing", plain(name)) if value is None else ("told", plain(value))
+
+    def look_or_due(self, name, other):
+        if not self.is_declared(name):
+            return ("refused", "NoSetting", plain(name))
+        return ("told", plain(self.values[self.entered[-1]].get(name, other)))
+
+    def told(self, names):
+        """All that a hall is to tell, in the form of told_of_hall."""
+        now = self.entered[-1]
+        seen = [(name, self.values[now].get(name, default)) for name, default in self.settings]
+        worlds = range(len(self.values))
+        numbers = range(len(self.tokens))
+        open_ones = [[at for at in numbers if self.tokens[at][3] and self.tokens[at][0] == world] for world in worlds]
+        turns = [max(self.open_beside(at), default=None) for at in numbers]
+        return [
+            plain([self.settings, len(worlds), self.spots, now, self.entered, self.tokens, open_ones, turns]),
+            plain([pair for pair in seen if pair[1] is not None]),
+            [self.look_due(world, name) for world in range(-1, len(worlds) + 1) for name in names],
+            [self.look_due(now, name) for name in names],
+            [self.look_or_due(name, other) for name in names for other in (None, "", 0)],
+            plain(self.places),
+        ]
+
+
+def told_of_hall(hall, tokens, names):
+    """All that a hall tells, that has so many tokens."""
+    worlds = range(hall.worlds())
+    numbers = range(tokens)
+    rows = [
+        hall.settings(), hall.worlds(), [hall.place(world) for world in worlds], hall.now(), hall.entered(),
+        [hall.token(at) for at in numbers], [hall.open_tokens(world) for world in worlds],
+        [hall.in_turn(at) for at in numbers],
+    ]
+    return [
+        plain(rows),
+        plain(hall.seen()),
+        [outcome(hall.look_in, world, name) for world in range(-1, len(worlds) + 1) for name in names],
+        [outcome(hall.look, name) for name in names],
+        [outcome(hall.look_or, name, other) for name in names for other in (None, "", 0)],
+        plain(hall.roads().places()),
+    ]
+
+
+def draw_deed(drawn, due, names):
+    """A drawn deed of a hall with what is handed in; some of them are to be refused."""
+    worlds, tokens = len(due.values), len(due.tokens)
+    chance = drawn.random()
+    if chance < 0.35:
+        return ("set_to", drawn.choice(names), drawn.choice(VALUES))
+    if chance < 0.60:
+        return ("back", drawn.randint(max(-1, tokens - 6), tokens) if chance < 0.5 else drawn.randint(-1, tokens))
+    if chance < 0.75:
+        return ("enter", drawn.randint(-1, worlds))
+    if chance < 0.87 or worlds > 9:
+        return ("leave",)
+    return ("copy", drawn.randint(-1, worlds))
+
+
+SHAPES = {"set": "nvn", "look": "n", "back": "n", "begin": "p", "late": "p", "copy": "n", "in": "np", "pass": ""}
+
+
+def is_part_due(thing, kind):
+    if kind == "p":
+        return is_program_due(thing)
+    if kind == "v" and type(thing) is int:
+        return True
+    return type(thing) is str and re.fullmatch("[ -~]*" if kind == "v" else "[a-z]{1,8}", thing) is not None
+
+
+def is_program_due(thing):
+    """Whether a thing is a program, by the words of [16]."""
+    return type(thing) is tuple and all(
+        type(step) is tuple
+        and len(step) > 0
+        and type(step[0]) is str
+        and step[0] in SHAPES
+        and len(step) == 1 + len(SHAPES[step[0]])
+        and all(is_part_due(part, kind) for part, kind in zip(step[1:], SHAPES[step[0]]))
+        for step in thing
+    )
+
+
+def draw_program(drawn, count, names, slots, deep=6, words=tuple(SHAPES)):
+    """A drawn program of just so many steps, with at most so many blocks within one another."""
+    steps = []
+    while count > 0:
+        word = drawn.choice(words)
+        if "p" in SHAPES[word] and deep == 0:
+            continue
+        count -= 1
+        step = [word]
+        for kind in SHAPES[word]:
+            if kind == "p":
+                inner = min(count, drawn.choice([0, 1, 2, 4, 8, count]))
+                count -= inner
+                step.append(draw_program(drawn, inner, names, slots, deep - 1, words))
+            else:
+                is_setting = word in ("set", "look") and len(step) == 1
+                step.append(drawn.choice(VALUES if kind == "v" else names if is_setting else slots))
+        steps.append(tuple(step))
+    return tuple(steps)
+
+
+def blocks_in(program):
+    """How many blocks stand within one another at most."""
+    return max([0] + [1 + blocks_in(step[-1]) for step in program if "p" in SHAPES[step[0]]])
+
+
+def nested(words, program):
+    """The program within blocks of these words, the first word's the outermost."""
+    for word in reversed(words):
+        program = (("in", "slot", program) if word == "in" else (word, program),)
+    return program

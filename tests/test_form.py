@@ -36,6 +36,8 @@ OUT = (
     ast.GeneratorExp, ast.With, ast.Match, ast.Global, ast.Nonlocal, ast.Yield, ast.YieldFrom, ast.Await,
     ast.AsyncFunctionDef, ast.AsyncFor, ast.AsyncWith, ast.NamedExpr, ast.Div, ast.MatMult, ast.Import,
 )
+ON_THE_SPOT = {"zip", "enumerate", "reversed", "range", "items", "keys", "values"}
+WALKERS = {"list", "tuple", "dict", "sorted", "sum", "any", "all", "enumerate", "zip", "min", "max", "join"}
 
 
 def files():
@@ -51,6 +53,22 @@ def bound_names(node):
     if isinstance(node, ast.Name) and isinstance(node.ctx, ast.Store):
         return [node.id]
     return [node.attr] if isinstance(node, ast.Attribute) else []
+
+
+def called(node):
+    """The name by which a call calls, "" of anything else."""
+    if not isinstance(node, ast.Call):
+        return ""
+    return node.func.id if isinstance(node.func, ast.Name) else getattr(node.func, "attr", "")
+
+
+def walked_on_the_spot(parent, node):
+    """Whether what stands above a call walks it."""
+    if isinstance(parent, (ast.For, ast.comprehension)):
+        return parent.iter is node
+    if isinstance(parent, ast.Compare):
+        return called(node) in ("range", "keys")
+    return called(parent) in WALKERS or (called(parent), called(node)) == ("reversed", "range")
 
 
 def tops_taken(tree):
@@ -142,6 +160,46 @@ class Form(unittest.TestCase):
         values = {node.attr for node in asked if isinstance(node.ctx, ast.Store)}
         self.assertEqual(values & (methods | VALUES_OUT), set())
         self.assertEqual({node.attr for node in asked} - values - methods - METHODS, set())
+
+    def test_what_stands_at_the_top_of_files_and_classes(self):
+        for path in files():
+            first, *rows = ast.parse(path.read_text(encoding="utf-8")).body
+            self.assertIsInstance(ast.literal_eval(first.value), str, path.name)
+            for row in rows:
+                self.assertIsInstance(row, (ast.ImportFrom, ast.FunctionDef, ast.ClassDef, ast.Assign), path.name)
+                for inner in row.body[1:] if isinstance(row, ast.ClassDef) else ():
+                    self.assertIsInstance(inner, ast.FunctionDef, path.name)
+
+    def test_is_stands_beside_none_true_and_false_alone(self):
+        for where, node in self.each_node():
+            if isinstance(node, ast.Compare) and any(isinstance(sign, (ast.Is, ast.IsNot)) for sign in node.ops):
+                self.assertIsInstance(node.comparators[0], ast.Constant, where)
+                self.assertIn(node.comparators[0].value, (None, True, False), where)
+
+    def test_loops_tries_and_raises(self):
+        for where, node in self.each_node():
+            if isinstance(node, (ast.For, ast.While)):
+                self.assertEqual(node.orelse, [], where)
+            if isinstance(node, ast.ExceptHandler):
+                self.assertIsInstance(node.type, ast.Name, where)
+                self.assertNotIn(node.type.id, ("Exception", "TypeError", "ValueError"), where)
+            if isinstance(node, ast.Raise) and node.exc is not None:
+                self.assertIsInstance(node.exc, ast.Call, where)
+                self.assertIsInstance(node.exc.func, ast.Name, where)
+
+    def test_what_is_walked_is_walked_on_the_spot(self):
+        for where, node in self.each_node():
+            for child in ast.iter_child_nodes(node):
+                if called(child) in ON_THE_SPOT:
+                    self.assertTrue(walked_on_the_spot(node, child), where)
+
+    def test_no_stars_in_calls_and_no_formats_in_texts(self):
+        for where, node in self.each_node():
+            if isinstance(node, ast.Call):
+                self.assertFalse([part for part in node.args if isinstance(part, ast.Starred)], where)
+                self.assertNotIn(None, [word.arg for word in node.keywords], where)
+            if isinstance(node, ast.FormattedValue):
+                self.assertIsNone(node.format_spec, where)
 
     def test_no_two_files_draw_from_one_another(self):
         left = {path.stem: drawn_from(path) for path in files()}
