@@ -2,7 +2,7 @@
 
 from roadsettings.marks import is_name, is_value
 
-# What stands behind each step's word.
+# Whoever looks at, writes or reads steps asks here, so that they can't come to differ.
 KINDS = {
     "set": ("name", "value", "slot"),
     "look": ("name",),

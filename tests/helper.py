@@ -384,6 +384,16 @@ def draw_program(drawn, count, names, slots, deep=6, words=tuple(SHAPES)):
     return tuple(steps)
 
 
+def warmed(drawn, program, slots, is_task=True):
+    """The program with copies ahead of what tasks do, so that fewer of its slots are empty."""
+    steps = [("copy", slot) for slot in slots if is_task and len(program) > 2 and drawn.random() < 0.8]
+    for step in program:
+        if "p" in SHAPES[step[0]]:
+            step = step[:-1] + (warmed(drawn, step[-1], slots, step[0] != "in"),)
+        steps.append(step)
+    return tuple(steps)
+
+
 def blocks_in(program):
     """How many blocks stand within one another at most."""
     return max([0] + [1 + blocks_in(step[-1]) for step in program if "p" in SHAPES[step[0]]])
@@ -394,3 +404,221 @@ def nested(words, program):
     for word in reversed(words):
         program = (("in", "slot", program) if word == "in" else (word, program),)
     return program
+
+
+class WorldDue:
+    """A world of a loom: the values that are set there, and its tokens."""
+
+    def __init__(self, values):
+        self.values = dict(values)
+        self.tokens = []
+
+
+class TaskDue:
+    """A task or call: its steps are run by a generator that stops ahead of each."""
+
+    def __init__(self, path, world, program):
+        self.path = path
+        self.own = world
+        self.within = []
+        self.tokens = {}
+        self.copies = {}
+        self.notes = []
+        self.children = 0
+        self.begun = []
+        self.steps = self.doing(program, world)
+        self.over = False
+        self.go_on()
+
+    def go_on(self):
+        self.over = next(self.steps, "over") == "over"
+
+    def doing(self, program, world):
+        self.within.append(world)
+        for step in program:
+            yield "a step is due"
+            if step[0] == "in":
+                target = self.copies.get(step[1])
+                if target is None or target in self.within:
+                    self.notes.append(("in", step[1], "none" if target is None else "busy"))
+                else:
+                    yield from self.doing(step[2], target)
+            elif step[0] in ("begin", "late"):
+                self.begun.append((step[0], TaskDue(self.path + (self.children,), WorldDue(world.values), step[1])))
+                self.children += 1
+            elif step[0] == "copy":
+                self.copies[step[1]] = WorldDue(world.values)
+            elif step[0] == "back":
+                token = self.tokens.get(step[1])
+                self.notes.append(("back", step[1], "none" if token is None else self.put_back(token, world)))
+            elif step[0] == "set":
+                token = {"world": world, "name": step[1], "old": world.values.get(step[1]), "open": True}
+                world.tokens.append(token)
+                world.values[step[1]] = step[2]
+                self.tokens[step[3]] = token
+            elif step[0] == "look":
+                self.notes.append(("look", step[1], world.values.get(step[1])))
+        self.within.pop()
+
+    def put_back(self, token, world):
+        if not token["open"]:
+            return "used"
+        if token["world"] is not world:
+            return "elsewhere"
+        at = [other is token for other in world.tokens].index(True)
+        if any(other["open"] and other["name"] == token["name"] for other in world.tokens[at + 1:]):
+            return "turn"
+        token["open"] = False
+        world.values = after(world.values, token["name"], token["old"])
+        return "done"
+
+
+class LoomDue:
+    """What [17] and [18] ask of a loom, in objects of the test's own."""
+
+    def __init__(self, settings, program):
+        self.defaults = dict(settings)
+        first = TaskDue((), WorldDue({}), program)
+        self.all = {(): first}
+        self.tasks = [first]
+        self.calls = []
+
+    def ready(self):
+        return [task.path for task in self.tasks if not task.over]
+
+    def waiting(self):
+        return [call.path for call in self.calls]
+
+    def turn(self, pick):
+        while not self.ready() and self.calls:
+            self.tasks.append(self.calls.pop(0))
+        ready = [task for task in self.tasks if not task.over]
+        if not ready:
+            return None
+        task = ready[pick % len(ready)]
+        task.go_on()
+        for word, other in task.begun:
+            self.all[other.path] = other
+            (self.tasks if word == "begin" else self.calls).append(other)
+        task.begun = []
+        return task.path
+
+    def note_due(self, note):
+        """A look's note, with the default or missing in the place of None."""
+        if note[0] != "look" or note[2] is not None:
+            return note
+        default = self.defaults[note[1]]
+        return ("missing", note[1]) if default is None else ("look", note[1], default)
+
+    def notes(self, path):
+        return [self.note_due(note) for note in self.all[path].notes]
+
+    def sees(self, path):
+        task = self.all[path]
+        return rising((task.own if task.over else task.within[-1]).values)
+
+    def paths(self):
+        return sorted(self.all)
+
+
+def told_of_loom(loom):
+    """All that a loom tells, or what is due of one."""
+    paths = loom.paths()
+    rows = [[path, loom.notes(path), loom.sees(path)] for path in paths]
+    return plain([loom.ready(), loom.waiting(), paths, rows])
+
+
+def woven_due(settings, program, picks):
+    """What [18] asks of woven."""
+    loom = LoomDue(settings, program)
+    turns = [loom.turn(pick) for pick in picks]
+    while turns[-1:] != [None]:
+        turns.append(loom.turn(0))
+    return ([(path, loom.notes(path)) for path in loom.paths()], [path for path in turns if path is not None])
+
+
+NAME_DUE = "[a-z]{1,8}"
+VALUE_DUE = r"0|-?[1-9][0-9]{0,29}|'(?:[ -&(-\[\]-~]|\\['\\]){0,40}'"
+
+
+def value_written(value):
+    """A value by the words of [19]."""
+    if type(value) is int:
+        return str(value)
+    return "'" + "".join("\\" + sign if sign in "'\\" else sign for sign in value) + "'"
+
+
+def value_read(word):
+    return re.sub(r"\\(.)", r"\1", word[1:-1]) if word[0] == "'" else int(word)
+
+
+def rows_written(program):
+    """The list of a program's rows, by the words of [19]."""
+    rows = []
+    for step in program:
+        shape = SHAPES[step[0]]
+        words = [value_written(part) if kind == "v" else part for part, kind in zip(step[1:], shape) if kind != "p"]
+        rows.append(" ".join([step[0]] + words))
+        rows += ["  " + row for row in (rows_written(step[-1]) if "p" in shape else [])]
+    return rows
+
+
+def row_read(row):
+    """How many blanks stand ahead in a program's row, and its step without the program within; None of no such row."""
+    for word, shape in SHAPES.items():
+        parts = {"n": f" ({NAME_DUE})", "v": f" ({VALUE_DUE})", "p": ""}
+        found = re.fullmatch("((?:  )*)" + word + "".join(parts[kind] for kind in shape), row)
+        if found:
+            blanks, *words = found.groups()
+            kinds = shape.replace("p", "")
+            step = [value_read(part) if kind == "v" else part for part, kind in zip(words, kinds)]
+            return len(blanks), (word, *step)
+    return None
+
+
+def bad_row(rows):
+    """The number of the first row of a program that isn't so written or stands too far in; None where all are right."""
+    most = 0
+    for number, row in enumerate(rows):
+        read = row_read(row)
+        if read is None or read[0] > most:
+            return number
+        most = read[0] + (2 if "p" in SHAPES[read[1][0]] else 0)
+    return None
+
+
+def program_read(rows, blanks=0):
+    """The program of rows that are all right."""
+    steps = []
+    for at, row in enumerate(rows):
+        ahead, step = row_read(row)
+        if ahead == blanks:
+            behind = [row_read(other)[0] > blanks for other in rows[at + 1:]] + [False]
+            inner = rows[at + 1:at + 1 + behind.index(False)]
+            steps.append(step + ((program_read(inner, blanks + 2),) if "p" in SHAPES[step[0]] else ()))
+    return tuple(steps)
+
+
+SIGNS = " '\\-09aAz~.,\"\t\u00e9\x7f"
+
+
+def spoilt_rows(drawn, rows, count):
+    """Rows spoilt in one place each, by drawn ways: a sign or a word more, less or other, blanks, rows moved."""
+    told = []
+    for turn in range(count):
+        at = drawn.randrange(len(rows))
+        row = rows[at]
+        sign = drawn.choice(SIGNS)
+        place = drawn.randrange(len(row) + 1)
+        words = row.split(" ")
+        word = drawn.randrange(len(words))
+        ways = [
+            [row[:place] + sign + row[place:]], [row[:place] + row[place + 1:]], [row[:place] + sign + row[place + 1:]],
+            [" ".join(words[:word] + words[word + 1:])], [" ".join(words[:word + 1] + words[word:])], [" " + row],
+            ["  " + row], ["    " + row], [row[1:]], [row[2:]], [row + " "], [row + "\r"], [row, ""], ["", row],
+            [row, row], [], [row.replace(" ", "  ")], [row.replace(" ", "\t")], [row.upper()], [row[::-1]],
+            [row.replace("1", "01")], [row.replace("0", "-0")], [row.replace("'", "")], [row.replace("\\", "")],
+            [row.replace("x" * 40, "x" * 41)], [row.replace("9" * 30, "9" * 31)], [row.replace("it", "\\it")],
+        ]
+        told.append(rows[:at] + drawn.choice(ways) + rows[at + 1:])
+    return told

@@ -65,7 +65,9 @@ class Settings(unittest.TestCase):
         hall.enter(hall.copy(0))
         refusal(self, NoSetting, "b", hall.set_to, "b", 1)
         hall.declare("b", "later")
-        self.assertEqual((hall.look("b"), hall.look_in(0, "b"), hall.seen()), ("later", "later", [("a", 1), ("b", "later")]))
+        self.assertEqual(
+            (hall.look("b"), hall.look_in(0, "b"), hall.seen()), ("later", "later", [("a", 1), ("b", "later")]),
+        )
 
 
 class Worlds(unittest.TestCase):
@@ -352,7 +354,9 @@ class Drawn(unittest.TestCase):
                 met[deed, told[1] if told[0] == "refused" else ""] = True
                 self.check_hall(hall, due, names)
         kinds = {kind for deed, kind in met}
-        self.assertEqual(kinds, {"", "NoSetting", "NoWorld", "Busy", "AtHome", "NoToken", "Used", "Elsewhere", "OutOfTurn"})
+        self.assertEqual(
+            kinds, {"", "NoSetting", "NoWorld", "Busy", "AtHome", "NoToken", "Used", "Elsewhere", "OutOfTurn"},
+        )
 
     def test_back_of_few_tokens_in_every_order(self):
         drawn = random.Random(71)

@@ -105,10 +105,16 @@ class IsProgram(unittest.TestCase):
         row = []
         for level in range(15):
             row = [row]
-        others = [None, True, False, 0, 1, -1, "", "pass", [], [("pass",)], ("pass",), ((),), ([],), (None,), (0,), ("",)]
+        others = [
+            None, True, False, 0, 1, -1, "", "pass", [], [("pass",)], ("pass",), ((),), ([],), (None,), (0,), ("",),
+        ]
         others += [deep, row, (("begin", deep[0]),), (("begin", row),), (("pass",), None), (("pass",), ())]
-        others += [((None,),), ((True,),), ((0,),), (((),),), (([],),), (("begin",),), (("Pass",),), (("pass", "pass"),)]
-        others += [((("pass",),),), (("run", ()),), ((["pass"],),), (("begin", None),), (("in", "a"),), (("in", (), "a"),)]
+        others += [
+            ((None,),), ((True,),), ((0,),), (((),),), (([],),), (("begin",),), (("Pass",),), (("pass", "pass"),),
+        ]
+        others += [
+            ((("pass",),),), (("run", ()),), ((["pass"],),), (("begin", None),), (("in", "a"),), (("in", (), "a"),),
+        ]
         others += [(("look", "a", "b"),), (("set", "a", 1),), (("set", "a", 1, "b", "c"),), (("begin", (), ()),)]
         for other in others:
             self.assertIs(is_program(other), False, other)
